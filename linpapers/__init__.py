@@ -1,0 +1,1 @@
+"""Linear inequalities over exact fractions, with a point or a paper."""

@@ -1,0 +1,112 @@
+"""What holds for the whole package: its interface, and what [2] and ../shared/LANGUAGE.md keep it from."""
+
+import ast
+import builtins
+import importlib
+import inspect
+import os
+import unittest
+
+ROOT = os.path.dirname(os.path.dirname(os.path.abspath(__file__)))
+PACKAGE = os.path.join(ROOT, "linpapers")
+
+# For each module of the interface its functions and classes, with their arguments.
+INTERFACE = {
+    "errors": {
+        "LinpapersError": None, "NumberError": [], "NoPoints": [], "TextError": ["place", "what"],
+        "LineError": ["line", "place", "what"], "FormulaError": ["place", "what"], "BenchError": ["what"]},
+    "numbers": {
+        "number": ["top", "bottom"], "plus": ["first", "second"], "minus": ["first", "second"],
+        "times": ["first", "second"], "over": ["first", "second"], "compare": ["first", "second"],
+        "simplest_between": ["lower", "lower_in", "upper", "upper_in"]},
+}
+
+LIBRARY = {
+    "math": {"gcd", "lcm", "isqrt", "comb", "perm", "factorial"},
+    "heapq": {"heappush", "heappop", "heapify", "heapreplace", "heappushpop"},
+    "itertools": {"product", "combinations", "permutations", "chain", "accumulate", "pairwise", "islice",
+                  "zip_longest"},
+    "collections": {"defaultdict", "deque"},
+}
+
+BUILTINS = set(
+    "len range enumerate zip min max sum abs sorted reversed int str bool bytes list tuple dict set frozenset "
+    "isinstance ord repr any all divmod pow getattr hasattr setattr iter next map type super property "
+    "staticmethod classmethod Exception ValueError TypeError KeyError IndexError LookupError ZeroDivisionError "
+    "ArithmeticError OverflowError RuntimeError NotImplementedError AttributeError StopIteration "
+    "NotImplemented object".split())
+
+
+def files():
+    """Return the paths of all files of the package."""
+    return sorted(os.path.join(folder, name) for folder, _, names in os.walk(PACKAGE) for name in names
+                  if not folder.endswith("__pycache__"))
+
+
+def text_of(path):
+    with open(path, encoding="utf-8", newline="") as file:
+        return file.read()
+
+
+class Interface(unittest.TestCase):
+    def test_defined_in_the_file_of_its_heading(self):
+        for module in INTERFACE:
+            tree = ast.parse(text_of(os.path.join(PACKAGE, module + ".py")))
+            defined = [node.name for node in tree.body if isinstance(node, (ast.FunctionDef, ast.ClassDef))]
+            for name in INTERFACE[module]:
+                self.assertEqual(defined.count(name), 1, (module, name))
+
+    def test_arguments(self):
+        for module in INTERFACE:
+            found = importlib.import_module("linpapers." + module)
+            for name, arguments in INTERFACE[module].items():
+                if arguments:
+                    self.assertEqual(list(inspect.signature(getattr(found, name)).parameters), arguments, name)
+
+
+class Form(unittest.TestCase):
+    def test_only_python_files(self):
+        self.assertTrue(files())
+        for path in files():
+            self.assertTrue(path.endswith(".py"), path)
+
+    def test_lines(self):
+        for path in files():
+            text = text_of(path)
+            self.assertTrue(all(char == "\n" or " " <= char <= "~" for char in text), path)
+            lines = text.splitlines()
+            self.assertLessEqual(len(lines), 399, path)
+            for place, line in enumerate(lines, start=1):
+                self.assertLessEqual(len(line), 120, (path, place))
+
+    def test_functions(self):
+        for path in files():
+            for node in ast.walk(ast.parse(text_of(path))):
+                if isinstance(node, ast.FunctionDef):
+                    self.assertLessEqual(node.end_lineno - node.lineno + 1, 40, (path, node.name))
+
+    def test_imports(self):
+        for path in files():
+            for node in ast.walk(ast.parse(text_of(path))):
+                self.assertNotIsInstance(node, ast.Import, path)
+                if isinstance(node, ast.ImportFrom):
+                    self.check_import(path, node)
+
+    def check_import(self, path, node):
+        names = {alias.name for alias in node.names}
+        self.assertEqual(node.level, 0, path)
+        if node.module in LIBRARY:
+            self.assertLessEqual(names, LIBRARY[node.module], path)
+        else:
+            self.assertTrue(node.module.startswith("linpapers."), (path, node.module))
+            self.assertNotIn("*", names, path)
+
+    def test_builtins(self):
+        for path in files():
+            for node in ast.walk(ast.parse(text_of(path))):
+                if isinstance(node, ast.Name) and hasattr(builtins, node.id):
+                    self.assertIn(node.id, BUILTINS, (path, node.lineno))
+
+
+if __name__ == "__main__":
+    unittest.main()
