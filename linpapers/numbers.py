@@ -1,10 +1,12 @@
 """Exact fractions: pairs (top, bottom) in lowest terms, with a bottom of at least 1."""
 
-from math import gcd
+from math import gcd, lcm
 
 from linpapers.errors import NumberError
 
 ZERO = (0, 1)
+ONE = (1, 1)
+MINUS_ONE = (-1, 1)
 
 
 def number(top, bottom):
@@ -52,6 +54,17 @@ def compare(first, second):
     if left > right:
         return 1
     return 0
+
+
+def whole_factor(values):
+    """Return the number above 0 that makes numbers, not all 0, integers without a common divisor above 1."""
+    common, multiple = 0, 1
+    for top, bottom in values:
+        common = gcd(common, top)
+        multiple = lcm(multiple, bottom)
+    # Multiplied by multiple, the numbers get no further common divisor: in lowest
+    # terms, each prime of it misses the top of a number that has it most often below.
+    return number(multiple, common)
 
 
 def simplest_between(lower, lower_in, upper, upper_in):

@@ -2,6 +2,7 @@
 
 import ast
 import builtins
+import doctest
 import importlib
 import inspect
 import os
@@ -19,6 +20,24 @@ INTERFACE = {
         "number": ["top", "bottom"], "plus": ["first", "second"], "minus": ["first", "second"],
         "times": ["first", "second"], "over": ["first", "second"], "compare": ["first", "second"],
         "simplest_between": ["lower", "lower_in", "upper", "upper_in"]},
+    "rows": {
+        "term": ["pairs", "constant"], "row": ["pairs", "sign", "bound"], "normal": ["some_row"],
+        "unknowns": ["system"], "value": ["some_term", "point"], "holds": ["some_row", "point"],
+        "is_point": ["system", "point"], "opposites": ["some_row"]},
+    "rowtext": {
+        "format_row": ["some_row"], "format_system": ["system"], "read_row": ["text"], "read_system": ["text"]},
+    "papers": {
+        "sum_of": ["system", "paper"], "is_paper": ["system", "paper"], "refutes": ["system", "paper"],
+        "shows": ["system", "paper", "some_row"]},
+    "elimination": {"derived": ["system"], "cleaned": ["rows"], "eliminated": ["rows", "unknown"]},
+    "systems": {"solve": ["system"], "has_points": ["system"], "core": ["system"]},
+    "ranges": {
+        "range_of": ["system", "some_term"], "upper_paper": ["system", "some_term"],
+        "lower_paper": ["system", "some_term"], "upper_ray": ["system", "some_term"],
+        "lower_ray": ["system", "some_term"]},
+    "consequences": {
+        "follows": ["system", "some_row"], "papers_of": ["system", "some_row"], "needed": ["system"],
+        "are_alike": ["system", "other"], "telling_point": ["system", "other"]},
 }
 
 LIBRARY = {
@@ -106,6 +125,14 @@ class Form(unittest.TestCase):
             for node in ast.walk(ast.parse(text_of(path))):
                 if isinstance(node, ast.Name) and hasattr(builtins, node.id):
                     self.assertIn(node.id, BUILTINS, (path, node.lineno))
+
+
+class Readme(unittest.TestCase):
+    def test_examples(self):
+        text = text_of(os.path.join(ROOT, "README.md")).replace("```", "")
+        examples = doctest.DocTestParser().get_doctest(text, {}, "README.md", None, None)
+        self.assertGreater(len(examples.examples), 20)
+        self.assertEqual(doctest.DocTestRunner(verbose=False).run(examples).failed, 0)
 
 
 if __name__ == "__main__":
