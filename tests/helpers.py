@@ -1,4 +1,4 @@
-"""What several tests share: rows from texts, and a second telling of [11] to [17], with fractions and dicts."""
+"""What several tests share: rows from texts, and a second telling of [11] to [15] and of the bounds of [17]."""
 
 import random
 from fractions import Fraction
