@@ -13,7 +13,7 @@ def solve(system):
     paper = _refutation(lists[-1])
     if paper is not None:
         return ("paper", paper)
-    return ("point", _told_point(lists, names))
+    return ("point", completed(lists, names, ()))
 
 
 def has_points(system):
@@ -54,13 +54,11 @@ def _refutation(rows):
     return None
 
 
-def _told_point(lists, names):
-    """Return the told point of a system, where names[k] was eliminated from lists[k]."""
-    point = ()
+def completed(lists, names, point):
+    """Return a point with the simplest numbers of further unknowns, where names[k] was eliminated from lists[k]."""
     for place in reversed(range(len(names))):
-        # Ahead of the others, for the names descend here.
-        point = ((names[place], _simplest(lists[place], names[place], point)),) + point
-    return point
+        point = point + ((names[place], _simplest(lists[place], names[place], point)),)
+    return tuple(sorted(point))
 
 
 def _simplest(rows, unknown, point):

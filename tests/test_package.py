@@ -38,6 +38,12 @@ INTERFACE = {
     "consequences": {
         "follows": ["system", "some_row"], "papers_of": ["system", "some_row"], "needed": ["system"],
         "are_alike": ["system", "other"], "telling_point": ["system", "other"]},
+    "projections": {"projection": ["system", "names"], "lifted": ["system", "names", "point"]},
+    "formulas": {
+        "is_true": ["formula", "point"], "plain": ["formula"], "unknowns_of": ["formula"],
+        "format_formula": ["formula"], "read_formula": ["text"]},
+    "proofs": {
+        "decide": ["formulas"], "follows": ["formulas", "formula"], "flaw_of_proof": ["formulas", "proof"]},
 }
 
 LIBRARY = {
