@@ -11,7 +11,7 @@ from linpapers.systems import solve
 
 _OF_ANOTHER_KIND = {"false": "not false", "and": "not an and", "or": "not an or"}
 
-# Stands for an assumed formula that is no row, so that papers can tell rows by the numbers of formulas.
+# Stands for an assumed formula that is no row; no paper of a step has a pair about it.
 _NO_ROW = ((), "<=", ZERO)
 
 
@@ -45,6 +45,11 @@ def proofs_in(step):
     if step[0] == "or":
         return step[2]
     return ()
+
+
+def system_of(assumed):
+    """Return rows by the numbers of assumed formulas, so that papers can tell them by these."""
+    return [formula[1] if formula[0] == "row" else _NO_ROW for formula in assumed]
 
 
 def _plain_forms(formulas):
@@ -103,8 +108,7 @@ def _wrong_paper(assumed, paper):
         return "no such formula"
     if not all([assumed[number][0] == "row" for number in numbers]):
         return "not a row"
-    system = [formula[1] if formula[0] == "row" else _NO_ROW for formula in assumed]
-    if not refutes(system, paper):
+    if not refutes(system_of(assumed), paper):
         return "no paper"
     return None
 

@@ -44,7 +44,23 @@ INTERFACE = {
         "format_formula": ["formula"], "read_formula": ["text"]},
     "proofs": {
         "decide": ["formulas"], "follows": ["formulas", "formula"], "flaw_of_proof": ["formulas", "proof"]},
+    "interpolants": {"interpolant": ["first", "second"], "share": ["first", "second"]},
+    "wholes": {
+        "rounded": ["some_row"], "decide_whole": ["box", "rows"], "flaw_of_whole": ["box", "rows", "proof"]},
+    "benches": {"Bench": [], "replayed": ["log"]},
+    "courts": {"answer": ["question"], "judge": ["claim"], "judge_all": ["claims"]},
 }
+
+LIMITS = {
+    "ROWS": 8, "UNKNOWNS": 4, "DIGITS": 6, "LETTERS": 8, "PARTS": 8, "FORMULAS": 40, "DEPTH": 12, "STEPS": 300,
+    "BOX": 3, "SIDE": 20, "FACTS": 12, "LEVELS": 8}
+
+# The methods of a Bench, with their arguments, and its properties.
+BENCH = {
+    "tell": ["self", "formula"], "push": ["self"], "pop": ["self"], "ask": ["self", "formula"],
+    "grounds": ["self", "formula"], "undo": ["self"], "branch": ["self"], "__init__": ["self"], "__len__": ["self"],
+    "__iter__": ["self"], "__contains__": None, "__eq__": ["self", "other"]}
+PROPERTIES = ["facts", "levels", "log"]
 
 LIBRARY = {
     "math": {"gcd", "lcm", "isqrt", "comb", "perm", "factorial"},
@@ -87,6 +103,26 @@ class Interface(unittest.TestCase):
             for name, arguments in INTERFACE[module].items():
                 if arguments:
                     self.assertEqual(list(inspect.signature(getattr(found, name)).parameters), arguments, name)
+                self.assertEqual(getattr(found, name).__module__, "linpapers." + module)
+
+    def test_limits(self):
+        found = importlib.import_module("linpapers.limits")
+        self.assertEqual({name: getattr(found, name) for name in LIMITS}, LIMITS)
+
+    def test_all_modules(self):
+        modules = [os.path.basename(path)[:-3] for path in files()]
+        self.assertEqual(set(modules) - set(INTERFACE), {"__init__", "limits", "pairs", "steps"})
+
+    def test_methods_of_a_bench(self):
+        found = importlib.import_module("linpapers.benches").Bench
+        for name, arguments in BENCH.items():
+            self.assertIn(name, vars(found))
+            if arguments is not None:
+                self.assertEqual(list(inspect.signature(vars(found)[name]).parameters), arguments, name)
+        for name in PROPERTIES:
+            self.assertIsInstance(vars(found)[name], property)
+            self.assertIsNone(vars(found)[name].fset)
+        self.assertIsNone(found.__hash__)
 
 
 class Form(unittest.TestCase):
